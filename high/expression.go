@@ -27,11 +27,7 @@ func expression(r *source.Reader) (int, bool) {
 	case "tab":
 		return table(r)
 	}
-	node, ok := r.Constant()
-	if ok {
-		return node, true
-	}
-	return r.Known()
+	return r.Argument()
 }
 
 // pair reads a word and two expressions.

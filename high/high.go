@@ -13,13 +13,8 @@ func Read(s string) (plan.Plan, api.Errno, int) {
 		return plan.Plan{}, api.ErrLong, 0
 	}
 	r := source.New(s)
-	if !text(r) {
-		return plan.Plan{}, api.ErrForm, r.Place()
-	}
-	if r.Plan.IsBig() {
-		return plan.Plan{}, api.ErrBig, 0
-	}
-	return r.Plan, api.OK, 0
+	right := text(r)
+	return r.Result(right)
 }
 
 func text(r *source.Reader) bool {
@@ -41,7 +36,7 @@ func lets(r *source.Reader) bool {
 		if !ok {
 			return false
 		}
-		r.Learn(name, node)
+		r.LearnValue(name, node)
 	}
 	return true
 }

@@ -27,6 +27,15 @@ const (
 	Not              // flag: the flag A does not hold
 )
 
+// IsFlag tells whether such a node holds or not, rather than having a value.
+func (op Op) IsFlag() bool {
+	switch op {
+	case Less, AtMost, Equal, And, Or, Not:
+		return true
+	}
+	return false
+}
+
 // Node: one operation. A, B and C are the numbers of nodes ahead of it; K is a plain number.
 type Node struct {
 	Op      Op

@@ -219,3 +219,12 @@ func TestStrayNodes(t *testing.T) {
 		t.Errorf("by a divisor below 1: %v", got)
 	}
 }
+
+func TestIsFlag(t *testing.T) {
+	for op := Number; op <= Not; op++ {
+		want := op >= Less
+		if op.IsFlag() != want {
+			t.Errorf("operation %d is a flag: %v", op, !want)
+		}
+	}
+}

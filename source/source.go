@@ -7,11 +7,18 @@ import (
 	"statute/token"
 )
 
-// noNode: the node of a name that must not be used again, but has no value.
-const noNode = -1
+// kind says what a name stands for.
+type kind int
+
+const (
+	value kind = iota
+	flag
+	told // an out: the name must not be used again, but stands for nothing
+)
 
 type entry struct {
 	name string
+	kind kind
 	node int
 }
 
@@ -27,11 +34,6 @@ type Reader struct {
 // New tells a reader at the head of a text.
 func New(s string) *Reader {
 	return &Reader{tokens: token.Split(s)}
-}
-
-// Place tells the number of the token that the reader stands ahead of.
-func (r *Reader) Place() int {
-	return r.at
 }
 
 // AtEnd tells whether there is no further token.
@@ -87,22 +89,41 @@ func (r *Reader) NewName() (string, bool) {
 	return name, true
 }
 
-// Learn keeps a name whose value is a node.
-func (r *Reader) Learn(name string, node int) {
-	r.entries = append(r.entries, entry{name, node})
+// LearnValue keeps a name whose value is a node.
+func (r *Reader) LearnValue(name string, node int) {
+	r.entries = append(r.entries, entry{name, value, node})
 }
 
-// LearnOut keeps the name of an out, which no expression may use, and its node.
+// LearnFlag keeps a name that holds or not, as a node says.
+func (r *Reader) LearnFlag(name string, node int) {
+	r.entries = append(r.entries, entry{name, flag, node})
+}
+
+// LearnOut keeps the name of an out, which nothing may use, and its node.
 func (r *Reader) LearnOut(name string, node int) {
-	r.entries = append(r.entries, entry{name, noNode})
+	r.entries = append(r.entries, entry{name, told, node})
 	r.Plan.Outs = append(r.Plan.Outs, node)
 }
 
-// Known reads a name that has a value, and tells its node.
-func (r *Reader) Known() (int, bool) {
+// Argument reads a number, or a name that has a value, and tells its node.
+func (r *Reader) Argument() (int, bool) {
+	k, ok := r.Number(-api.MaxNumber, api.MaxNumber)
+	if ok {
+		return r.Plan.Append(plan.Node{Op: plan.Number, K: k}), true
+	}
+	return r.known(value)
+}
+
+// Flag reads the name of a flag, and tells its node.
+func (r *Reader) Flag() (int, bool) {
+	return r.known(flag)
+}
+
+// known reads a name of one kind.
+func (r *Reader) known(k kind) (int, bool) {
 	name := r.Peek()
 	i := r.find(name)
-	if i >= len(r.entries) || r.entries[i].node == noNode {
+	if i >= len(r.entries) || r.entries[i].kind != k {
 		return 0, false
 	}
 	r.Skip()
@@ -146,15 +167,18 @@ func (r *Reader) input() bool {
 		return false
 	}
 	node := r.Plan.AppendInput(plan.Span{Lo: lo, Hi: hi})
-	r.Learn(name, node)
+	r.LearnValue(name, node)
 	return true
 }
 
-// Constant reads a number as a value, and tells its node.
-func (r *Reader) Constant() (int, bool) {
-	k, ok := r.Number(-api.MaxNumber, api.MaxNumber)
-	if !ok {
-		return 0, false
+// Result tells the plan of a text that was read to its end, or else the error and its place. Right says whether every
+// token may stand.
+func (r *Reader) Result(right bool) (plan.Plan, api.Errno, int) {
+	if !right {
+		return plan.Plan{}, api.ErrForm, r.at
 	}
-	return r.Plan.Append(plan.Node{Op: plan.Number, K: k}), true
+	if r.Plan.IsBig() {
+		return plan.Plan{}, api.ErrBig, 0
+	}
+	return r.Plan, api.OK, 0
 }

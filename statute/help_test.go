@@ -61,3 +61,26 @@ func sum(n int) string {
 func padded(s string, n int) string {
 	return s + strings.Repeat(" ", n-len(s))
 }
+
+// steps makes a text with so many steps.
+func steps(n int) string {
+	s := one
+	for i := range n {
+		s += "set s" + strconv.Itoa(i) + " add x 1 "
+	}
+	return s + "out y x"
+}
+
+// lowTaxes: a text that has everything of the low form in it.
+const lowTaxes = `# of a household
+in income -1000000 1000000000 in kids 0 20
+in rent 0 5000 # each month
+set free mul 900 kids set base sub income free
+set poor le base 0 set none eq kids 0
+set many lt 3 kids
+set fam not none set both and poor fam set any or both many
+set rate flr base 7
+set tax sel poor 0 rate
+set more add tax rent
+set due sel any more tax
+out due0 due out rest more out fix 12`

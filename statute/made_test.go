@@ -238,13 +238,18 @@ func (m *maker) learn(name string, x made) {
 	m.bounds = append(m.bounds, x.bound)
 }
 
+func (m *maker) home(ranges []api.Range) []int {
+	var home []int
+	for _, r := range ranges {
+		home = append(home, m.between(r.Lo, r.Hi))
+	}
+	return home
+}
+
 func (m *maker) tryHomes(t *testing.T, s string, ranges []api.Range, told []made) {
 	t.Helper()
 	for range 8 {
-		var home []int
-		for _, r := range ranges {
-			home = append(home, m.between(r.Lo, r.Hi))
-		}
+		home := m.home(ranges)
 		var want []int
 		for _, x := range told {
 			want = append(want, int(x.value(home).Int64()))

@@ -4,6 +4,8 @@ package statute
 import (
 	"statute/api"
 	"statute/high"
+	"statute/low"
+	"statute/plan"
 	"statute/token"
 )
 
@@ -16,6 +18,41 @@ func CheckHigh(s string) (api.Errno, int) {
 // PrintHigh writes a text of the high form anew (P4).
 func PrintHigh(s string) (string, api.Errno) {
 	_, errno, _ := high.Read(s)
+	return printed(s, errno)
+}
+
+// RunHigh tells what a text of the high form comes to for a household (P5).
+func RunHigh(s string, home []int) ([]int, api.Errno) {
+	p, errno, _ := high.Read(s)
+	return told(p, errno, home)
+}
+
+// CheckLow tells whether a text has the low form (P6).
+func CheckLow(s string) (api.Errno, int) {
+	_, errno, place := low.Read(s)
+	return errno, place
+}
+
+// PrintLow writes a text of the low form anew (P7).
+func PrintLow(s string) (string, api.Errno) {
+	_, errno, _ := low.Read(s)
+	return printed(s, errno)
+}
+
+// RunLow tells what a text of the low form comes to for a household (P8).
+func RunLow(s string, home []int) ([]int, api.Errno) {
+	p, errno, _ := low.Read(s)
+	return told(p, errno, home)
+}
+
+// Solve tells the least numbers at which all rows hold (P9).
+func Solve(vars []api.Range, rows []api.Row) ([]int, bool, api.Errno) { return nil, false, api.OK }
+
+// Compare tells whether a text of the high form and one of the low form always come to the same (P10).
+func Compare(high string, low string) (api.Verdict, api.Errno) { return api.Verdict{}, api.OK }
+
+// printed writes a text anew, unless reading it met an error.
+func printed(s string, errno api.Errno) (string, api.Errno) {
 	if errno != api.OK {
 		return "", errno
 	}
@@ -23,9 +60,8 @@ func PrintHigh(s string) (string, api.Errno) {
 	return token.Lines(list), api.OK
 }
 
-// RunHigh tells what a text of the high form comes to for a household (P5).
-func RunHigh(s string, home []int) ([]int, api.Errno) {
-	p, errno, _ := high.Read(s)
+// told tells the values of a program's outs, unless reading its text met an error.
+func told(p plan.Plan, errno api.Errno, home []int) ([]int, api.Errno) {
 	if errno != api.OK {
 		return nil, errno
 	}
@@ -34,18 +70,3 @@ func RunHigh(s string, home []int) ([]int, api.Errno) {
 	}
 	return p.Run(home), api.OK
 }
-
-// CheckLow tells whether a text has the low form (P6).
-func CheckLow(s string) (api.Errno, int) { return api.OK, 0 }
-
-// PrintLow writes a text of the low form anew (P7).
-func PrintLow(s string) (string, api.Errno) { return "", api.OK }
-
-// RunLow tells what a text of the low form comes to for a household (P8).
-func RunLow(s string, home []int) ([]int, api.Errno) { return nil, api.OK }
-
-// Solve tells the least numbers at which all rows hold (P9).
-func Solve(vars []api.Range, rows []api.Row) ([]int, bool, api.Errno) { return nil, false, api.OK }
-
-// Compare tells whether a text of the high form and one of the low form always come to the same (P10).
-func Compare(high string, low string) (api.Verdict, api.Errno) { return api.Verdict{}, api.OK }

@@ -19,7 +19,7 @@ func Lines(list []string) string {
 // these words stand at the head of a part and nowhere else.
 func gap(t string) byte {
 	switch t {
-	case "in", "let", "out":
+	case "in", "let", "set", "out":
 		return '\n'
 	}
 	return ' '

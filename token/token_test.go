@@ -83,6 +83,7 @@ func TestLines(t *testing.T) {
 		{"", ""},
 		{"in x 0 9 out y x", "in x 0 9\nout y x\n"},
 		{"in x 0 9 in k 1 2 let a add x k let b a out y b out z 1", "in x 0 9\nin k 1 2\nlet a add x k\nlet b a\nout y b\nout z 1\n"},
+		{"in x 0 9 set c lt x 5 set d sel c x 5 out y d", "in x 0 9\nset c lt x 5\nset d sel c x 5\nout y d\n"},
 	} {
 		got := Lines(strings.Fields(c.s))
 		if got != c.want {
