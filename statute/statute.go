@@ -6,6 +6,7 @@ import (
 	"statute/high"
 	"statute/low"
 	"statute/plan"
+	"statute/solve"
 	"statute/token"
 )
 
@@ -46,7 +47,9 @@ func RunLow(s string, home []int) ([]int, api.Errno) {
 }
 
 // Solve tells the least numbers at which all rows hold (P9).
-func Solve(vars []api.Range, rows []api.Row) ([]int, bool, api.Errno) { return nil, false, api.OK }
+func Solve(vars []api.Range, rows []api.Row) ([]int, bool, api.Errno) {
+	return solve.Least(vars, rows)
+}
 
 // Compare tells whether a text of the high form and one of the low form always come to the same (P10).
 func Compare(high string, low string) (api.Verdict, api.Errno) { return api.Verdict{}, api.OK }
