@@ -56,9 +56,11 @@ type Span struct {
 
 // Plan: a whole program. Outs are the numbers of the nodes that it tells.
 type Plan struct {
-	Inputs []Span
-	Nodes  []Node
-	Outs   []int
+	Inputs     []Span
+	Nodes      []Node
+	Outs       []int
+	InputNames []string
+	OutNames   []string
 }
 
 // Append adds a node and tells its number.

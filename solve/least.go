@@ -124,3 +124,16 @@ func lowered(r region, at int, point []whole.Int) []whole.Int {
 	}
 	return point
 }
+
+// Point tells the least list of the first so many coordinates at which some sums of the coordinates are 0 and others at
+// least 0; false if there is none. Each sum has a constant ahead, then one factor for each coordinate. Together they must
+// bound every coordinate from both sides.
+func Point(size int, zero, least [][]whole.Int, first int) ([]whole.Int, bool) {
+	r := region{size: size, zero: zero, least: least}
+	for i := 0; i < first && i < size; i++ {
+		number := make([]whole.Int, size+1)
+		number[i+1] = whole.Of(1)
+		r.told = append(r.told, number)
+	}
+	return leastPoint(r)
+}

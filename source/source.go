@@ -103,6 +103,7 @@ func (r *Reader) LearnFlag(name string, node int) {
 func (r *Reader) LearnOut(name string, node int) {
 	r.entries = append(r.entries, entry{name, told, node})
 	r.Plan.Outs = append(r.Plan.Outs, node)
+	r.Plan.OutNames = append(r.Plan.OutNames, name)
 }
 
 // Argument reads a number, or a name that has a value, and tells its node.
@@ -167,6 +168,7 @@ func (r *Reader) input() bool {
 		return false
 	}
 	node := r.Plan.AppendInput(plan.Span{Lo: lo, Hi: hi})
+	r.Plan.InputNames = append(r.Plan.InputNames, name)
 	r.LearnValue(name, node)
 	return true
 }

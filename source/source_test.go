@@ -1,6 +1,7 @@
 package source
 
 import (
+	"slices"
 	"strings"
 	"testing"
 
@@ -149,5 +150,17 @@ func TestInputs(t *testing.T) {
 		if r.Inputs() || r.at != place {
 			t.Errorf("inputs of %q: at %d, want a fault at %d", s, r.at, place)
 		}
+	}
+}
+
+func TestNamesOfInputsAndOuts(t *testing.T) {
+	r := New("in x 0 9 in k 0 3")
+	if !r.Inputs() {
+		t.Fatal("no inputs")
+	}
+	r.LearnOut("y", 0)
+	r.LearnOut("z", 1)
+	if !slices.Equal(r.Plan.InputNames, []string{"x", "k"}) || !slices.Equal(r.Plan.OutNames, []string{"y", "z"}) {
+		t.Errorf("%v, %v", r.Plan.InputNames, r.Plan.OutNames)
 	}
 }

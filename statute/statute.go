@@ -6,6 +6,7 @@ import (
 	"statute/high"
 	"statute/low"
 	"statute/plan"
+	"statute/search"
 	"statute/solve"
 	"statute/token"
 )
@@ -52,7 +53,40 @@ func Solve(vars []api.Range, rows []api.Row) ([]int, bool, api.Errno) {
 }
 
 // Compare tells whether a text of the high form and one of the low form always come to the same (P10).
-func Compare(high string, low string) (api.Verdict, api.Errno) { return api.Verdict{}, api.OK }
+func Compare(high string, low string) (api.Verdict, api.Errno) {
+	first, errno := readHigh(high)
+	if errno != api.OK {
+		return api.Verdict{}, errno
+	}
+	second, errno := readLow(low)
+	if errno != api.OK {
+		return api.Verdict{}, errno
+	}
+	if !plan.IsPair(first, second) {
+		return api.Verdict{}, api.ErrPair
+	}
+	return verdict(first, second), api.OK
+}
+
+// readHigh and readLow stand apart from Compare, whose arguments have the names of the packages.
+func readHigh(s string) (plan.Plan, api.Errno) {
+	p, errno, _ := high.Read(s)
+	return p, errno
+}
+
+func readLow(s string) (plan.Plan, api.Errno) {
+	p, errno, _ := low.Read(s)
+	return p, errno
+}
+
+// verdict tells whether two programs that are a pair come to the same for every household.
+func verdict(first, second plan.Plan) api.Verdict {
+	home, differ := search.First(first, second)
+	if !differ {
+		return api.Verdict{Same: true}
+	}
+	return api.Verdict{Home: home, Out: plan.FirstParting(first, second, home)}
+}
 
 // printed writes a text anew, unless reading it met an error.
 func printed(s string, errno api.Errno) (string, api.Errno) {

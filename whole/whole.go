@@ -69,6 +69,15 @@ func (a Int) Abs() Int {
 
 // Compare tells -1 if a is less than b, 0 if both are the same, 1 if a is greater.
 func Compare(a, b Int) int {
+	if len(a.limbs) == 0 && len(b.limbs) == 0 {
+		if a.value < b.value {
+			return -1
+		}
+		if a.value > b.value {
+			return 1
+		}
+		return 0
+	}
 	d := Sub(a, b)
 	return d.Sign()
 }
