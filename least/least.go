@@ -26,7 +26,7 @@ const (
 )
 
 // Point tells the least list of a box. Most is how many corners it goes to at most; if that does not settle it, it tells
-// the list from which on there may be one.
+// a list within the ranges from which on there may be one.
 func Point(b Box, most int) ([]whole.Int, State) {
 	b = copied(b)
 	if !narrowed(&b) {
@@ -37,7 +37,7 @@ func Point(b Box, most int) ([]whole.Int, State) {
 	if state == None {
 		return nil, None
 	}
-	return t.corner(b.Low), state
+	return t.corner(b), state
 }
 
 func copied(b Box) Box {

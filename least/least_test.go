@@ -125,12 +125,17 @@ func TestSmallBoxes(t *testing.T) {
 func TestGivenUp(t *testing.T) {
 	r := rand.New(rand.NewSource(2))
 	open := 0
-	for range 6000 {
+	for range 20000 {
 		ranges, rows := drawn(r, 1+r.Intn(4), 8, 6)
 		want := byTrying(ranges, rows, nil)
-		point, state := Point(box(ranges, rows), r.Intn(4))
+		point, state := Point(box(ranges, rows), r.Intn(12))
 		if state == None && want != nil || state == Found && !isPoint(point, want) {
 			t.Fatalf("%v, %v = %v, %d, want %v", ranges, rows, point, state, want)
+		}
+		for i := range point {
+			if whole.Compare(point[i], of(ranges[i].Lo)) < 0 || whole.Compare(point[i], of(ranges[i].Hi)) > 0 {
+				t.Fatalf("%v, %v = %v, which is outside", ranges, rows, point)
+			}
 		}
 		if state == Open {
 			open++

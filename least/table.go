@@ -164,18 +164,22 @@ func (t *table) rest(cell whole.Int) whole.Int {
 	return whole.Sub(cell, whole.Mul(times, t.scale))
 }
 
-// corner tells the numbers at the corner. From the first one on that is not whole it tells the least list that is not
-// less than the corner.
-func (t *table) corner(from []whole.Int) []whole.Int {
+// corner tells the numbers at the corner. If they are not a list of the box, it tells the least list within the ranges
+// that is not less than the corner, or one that is less still.
+func (t *table) corner(b Box) []whole.Int {
 	point := make([]whole.Int, t.size)
-	copy(point, from)
+	copy(point, b.Low)
 	for i := 0; i < t.size; i++ {
 		if t.lines[i][0].Sign() < 0 {
 			return point
 		}
+		part := whole.Div(t.lines[i][0].Neg(), t.scale)
+		point[i] = whole.Sub(b.Low[i], part)
+		if whole.Compare(point[i], b.High[i]) > 0 {
+			point[i] = b.High[i]
+			return point
+		}
 		over := t.rest(t.lines[i][0])
-		part := whole.Div(t.lines[i][0].Neg(), t.scale).Neg()
-		point[i] = whole.Add(from[i], part)
 		if over.Sign() != 0 {
 			return point
 		}

@@ -7,7 +7,7 @@ import (
 
 const (
 	nowhere = -1
-	tries   = 4  // how many nodes of the high plan are tried for one of the low plan
+	tries   = 8  // how many nodes of the high plan are tried for one of the low plan
 	aFew    = 60 // how many parts a try looks at
 	spread  = 64 // how many households are spread over all of them
 )
@@ -86,7 +86,7 @@ func (l *likeness) find(at int) int {
 			continue
 		}
 		count++
-		s := begun(told(l.high, i), told(l.low, at), l.same, aFew)
+		s := begun(told(l.high, i), told(l.low, at), l.same, effort{aFew, corners})
 		home, outcome := s.run()
 		if outcome == none {
 			return i

@@ -163,6 +163,26 @@ func TestHardPairs(t *testing.T) {
 	}
 }
 
+// Without corners everything hangs on what takes longer.
+func TestRestsWithoutCorners(t *testing.T) {
+	for _, c := range []struct {
+		low  string
+		home []int
+	}{
+		{rests([2]int{7, 3}, [2]int{11, 5}, [2]int{13, 7}), []int{423}},
+		{rests([2]int{97, 3}, [2]int{89, 5}, [2]int{83, 7}, [2]int{79, 11}), []int{4124443}},
+		{rests([2]int{997, 3}, [2]int{991, 5}, [2]int{983, 7}), []int{595451274}},
+		{rests([2]int{997, 3}, [2]int{991, 5}, [2]int{983, 7}, [2]int{977, 7}), nil},
+		{wide + "set q flr x 100 set c eq q 0 set d sel c 0 1 out y d", []int{100}},
+	} {
+		a, b := mustRead(t, wide+"out y 0", c.low)
+		home, found := byParts(a, b, nil, 0)
+		if !slices.Equal(home, c.home) || found != (c.home != nil) {
+			t.Errorf("%q: %v, %v, want %v", c.low, home, found, c.home)
+		}
+	}
+}
+
 var hardTexts = []string{
 	"in income -1000000 1000000000 in kids 0 20 in rent 0 5000 let base max 0 sub income mul 900 kids let tax div near tab base 3 10000 14 60000 42 250000 45 100 let aid if and lt income 30000 not eq kids 0 mul 250 kids div up rent 3 out due if or le tax aid eq rent 5000 0 sub tax aid out paid min aid div zero tax 12 out rest div down sub income tax 7",
 	four + "out a min min x y min z w out b max max x y max z w out c add add x y add z w",

@@ -16,6 +16,7 @@ type maker struct {
 	args   []string // what the names are in the low text
 	span   int      // how far numbers go
 	recent bool     // whether the last names are taken most often
+	big    bool     // whether factors and divisors are great
 }
 
 func (m *maker) below(n int) int {
@@ -74,6 +75,9 @@ func (m *maker) expression(depth int) string {
 		return m.step("sub", a, b)
 	case 6:
 		k := m.between(-4, 9)
+		if m.big {
+			k = m.between(-300, 1000)
+		}
 		m.put("mul", num(k))
 		a := m.expression(depth - 1)
 		if k == 2 {
@@ -123,6 +127,9 @@ func (m *maker) quotient(depth int) string {
 	d := m.between(1, 12)
 	if m.below(3) == 0 {
 		d = m.between(1, 1000)
+	}
+	if m.big {
+		d = m.between(1, []int{10, 1000, 1000000}[m.below(3)])
 	}
 	m.put(num(d))
 	switch mode {

@@ -28,9 +28,14 @@ const (
 	manyNamed = 20     // with more nodes than that, it is better to part than to learn more of them
 )
 
+// effort: how many parts may be looked at, or noLimit, and how many corners of each are gone to.
+type effort struct {
+	parts, corners int
+}
+
 // First tells the least household at which the outs of two plans with the same inputs differ; false if there is none.
 func First(high, low plan.Plan) ([]int, bool) {
-	s := begun(high, low, nil, someParts)
+	s := begun(high, low, nil, effort{someParts, corners})
 	home, outcome := s.run()
 	if outcome != open {
 		return home, outcome == found
@@ -39,7 +44,7 @@ func First(high, low plan.Plan) ([]int, bool) {
 		return tried(high, low)
 	}
 	same := alike(high, low, s.homes)
-	s = begun(high, low, same, noLimit)
+	s = begun(high, low, same, effort{noLimit, corners})
 	home, outcome = s.run()
 	return home, outcome == found
 }
@@ -49,13 +54,13 @@ type search struct {
 	high, low plan.Plan
 	heap      heap
 	homes     [][]int // at which the plans turned out to come to the same
-	most      int     // how many parts may be looked at, or noLimit
-	looked    int     // how many were
+	most      effort
+	looked    int // at how many parts
 }
 
 // begun enters the parts at which one out of the first plan is greater than that of the second, or less. Same tells for
 // nodes of the low plan those of the high plan that always come to the same.
-func begun(high, low plan.Plan, same []int, most int) *search {
+func begun(high, low plan.Plan, same []int, most effort) *search {
 	s := &search{high: high, low: low, most: most}
 	n := net.New(net.SpansOf(high))
 	first := n.Program(high, nil)
@@ -86,7 +91,7 @@ func (s *search) run() ([]int, outcome) {
 		if plan.FirstParting(s.high, s.low, c.home) >= 0 {
 			return c.home, found
 		}
-		if s.most != noLimit && s.looked >= s.most {
+		if s.most.parts != noLimit && s.looked >= s.most.parts {
 			return nil, open
 		}
 		s.homes = append(s.homes, c.home)
@@ -107,7 +112,7 @@ func (s *search) enter(p part.Part) {
 		return
 	}
 	named := p.Named()
-	point, state := least.Point(p.Box(named), corners)
+	point, state := least.Point(p.Box(named), s.most.corners)
 	if state != least.None {
 		s.heap.push(claim{p, named, point, homeOf(p, named, point), state == least.Found})
 	}
@@ -121,13 +126,7 @@ func homeOf(p part.Part, named []int, point []whole.Int) []int {
 	}
 	for i := 0; i < len(named) && i < len(point); i++ {
 		node := &p.Net.Nodes[named[i]]
-		if node.Kind != net.Input {
-			continue
-		}
-		// A point that is not sure may be beyond the span.
-		if whole.Compare(point[i], node.Range.High) > 0 {
-			home[node.K] = small(node.Range.High)
-		} else {
+		if node.Kind == net.Input {
 			home[node.K] = small(point[i])
 		}
 	}

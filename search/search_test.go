@@ -2,6 +2,7 @@ package search
 
 import (
 	"slices"
+	"strings"
 	"testing"
 
 	"statute/api"
@@ -30,8 +31,8 @@ func mustRead(t *testing.T, h, l string) (plan.Plan, plan.Plan) {
 }
 
 // byParts tells the least household by parts alone, with no limit to them.
-func byParts(a, b plan.Plan, same []int) ([]int, bool) {
-	s := begun(a, b, same, noLimit)
+func byParts(a, b plan.Plan, same []int, corners int) ([]int, bool) {
+	s := begun(a, b, same, effort{noLimit, corners})
 	home, outcome := s.run()
 	return home, outcome == found
 }
@@ -40,7 +41,7 @@ func byParts(a, b plan.Plan, same []int) ([]int, bool) {
 func TestSmallPairs(t *testing.T) {
 	count, differing := 0, 0
 	for seed := range 1600 {
-		m := &maker{state: uint64(seed), span: 20, recent: seed%2 == 0}
+		m := &maker{state: uint64(seed), span: 20, recent: seed%2 == 0, big: seed%5 == 0}
 		inputs := m.between(1, 4)
 		h, l := m.pair(inputs, []int{0, 200, 16, 7, 4}[inputs], m.below(6), m.between(1, 2), m.between(1, 3))
 		for turn := range 3 {
@@ -56,7 +57,7 @@ func TestSmallPairs(t *testing.T) {
 			if differ {
 				differing++
 			}
-			got, found := byParts(a, b, nil)
+			got, found := byParts(a, b, nil, corners)
 			if !slices.Equal(got, want) || found != differ {
 				t.Fatalf("seed %d, turn %d:\n%s\n%s\n= %v, %v, want %v", seed, turn, h, l, got, found, want)
 			}
@@ -67,7 +68,11 @@ func TestSmallPairs(t *testing.T) {
 			if seed%8 > 0 {
 				continue
 			}
-			got, found = byParts(a, b, alike(a, b, nil))
+			got, found = byParts(a, b, nil, seed/8%6)
+			if !slices.Equal(got, want) || found != differ {
+				t.Fatalf("seed %d, turn %d:\n%s\n%s\n= %v, %v by few corners, want %v", seed, turn, h, l, got, found, want)
+			}
+			got, found = byParts(a, b, alike(a, b, nil), corners)
 			if !slices.Equal(got, want) || found != differ {
 				t.Fatalf("seed %d, turn %d:\n%s\n%s\n= %v, %v by what is alike, want %v", seed, turn, h, l, got, found, want)
 			}
@@ -83,7 +88,7 @@ func TestSmallPairs(t *testing.T) {
 func TestWidePairs(t *testing.T) {
 	count, differing := 0, 0
 	for seed := range 500 {
-		m := &maker{state: uint64(seed), span: []int{100, 100000, 100000000}[seed%3], recent: seed%2 == 0}
+		m := &maker{state: uint64(seed), span: []int{100, 100000, 100000000}[seed%3], recent: seed%2 == 0, big: seed%5 < 2}
 		h, l := m.pair(m.between(1, 4), 1000000000, m.below(9), m.between(1, 3), m.between(1, 3))
 		for turn := range 3 {
 			if turn > 0 {
@@ -134,7 +139,7 @@ func (m *maker) tryLess(t *testing.T, a, b plan.Plan, home []int, found bool) {
 
 func TestGivenUp(t *testing.T) {
 	a, b := mustRead(t, minTent(8), lowTent(8))
-	s := begun(a, b, nil, 20)
+	s := begun(a, b, nil, effort{20, corners})
 	home, outcome := s.run()
 	if outcome != open || home != nil || s.looked > 25 {
 		t.Errorf("%v, %d after %d parts", home, outcome, s.looked)
@@ -185,6 +190,26 @@ func TestHeap(t *testing.T) {
 				t.Fatalf("%v, want %v", got.home, home)
 			}
 		}
+	}
+}
+
+// What is the same but for one household, and takes long to look at, is not alike.
+func TestNotAlike(t *testing.T) {
+	h, l := greatest(12, 0)
+	one := "set e eq x 123456789 set g eq y 987654321 set h and e g set i add 1 m0 set j sel h i m0 out o j"
+	a, b := mustRead(t, h, strings.Replace(l, "out o m0", one, 1))
+	s := begun(a, b, nil, effort{aFew, corners})
+	if _, outcome := s.run(); outcome != open {
+		t.Errorf("this does not take long: %d", outcome)
+	}
+	like := &likeness{high: a, low: b}
+	like.learn(spreadHome(a, 0))
+	if at := like.find(b.Outs[0]); at != nowhere {
+		t.Errorf("the last node is like node %d", at)
+	}
+	home, found := First(a, b)
+	if !found || !slices.Equal(home, []int{123456789, 987654321, 0, 0}) {
+		t.Errorf("%v, %v", home, found)
 	}
 }
 
