@@ -87,11 +87,11 @@ func (l *likeness) find(at int) int {
 		}
 		count++
 		s := begun(told(l.high, i), told(l.low, at), l.same, effort{aFew, corners})
-		home, outcome := s.run()
-		if outcome == none {
+		home, result := s.run()
+		if result == none {
 			return i
 		}
-		if outcome == found {
+		if result == found {
 			l.learn(home)
 		}
 	}

@@ -36,17 +36,17 @@ type effort struct {
 // First tells the least household at which the outs of two plans with the same inputs differ; false if there is none.
 func First(high, low plan.Plan) ([]int, bool) {
 	s := begun(high, low, nil, effort{someParts, corners})
-	home, outcome := s.run()
-	if outcome != open {
-		return home, outcome == found
+	home, result := s.run()
+	if result != open {
+		return home, result == found
 	}
 	if areFew(high, fewHomes) {
 		return tried(high, low)
 	}
 	same := alike(high, low, s.homes)
 	s = begun(high, low, same, effort{noLimit, corners})
-	home, outcome = s.run()
-	return home, outcome == found
+	home, result = s.run()
+	return home, result == found
 }
 
 // search: the claims of all parts that may hold a household at which the plans differ.
